@@ -1,0 +1,1 @@
+"""Scriptpicks: which rows the steps of a script reach when the goal is edited."""
