@@ -1,0 +1,38 @@
+import doctest
+import unittest
+
+# The document's examples, which are one session.
+EXAMPLES = """
+>>> from scriptpicks.atoms import atoms_of, both, chained, fits, patterns_of, turned, turned_pattern
+>>> from scriptpicks.words import fresh
+>>> [turned(("lt", "a", "b")), turned_pattern(("lt", "a", "")), chained(("eq", "a", "b"), ("lt", "b", "c"))]
+[('gt', 'b', 'a'), ('gt', '', 'a'), ('lt', 'a', 'c')]
+>>> [fits(("", "a", ""), ("eq", "a", "b")), both(("lt", "", ""), ("", "a", "")), len(patterns_of(("eq", "a", "a")))]
+[True, ('lt', 'a', ''), 8]
+>>> [fresh(["a", "c"]), atoms_of([("eq", "a", "")])]
+['b', [('eq', 'a', 'a'), ('eq', 'a', 'b'), ('eq', 'b', 'a'), ('eq', 'b', 'b')]]
+>>> from scriptpicks.picks import picked, picks_to
+>>> from scriptpicks.starts import Start
+>>> rows = [("h", (("eq", "a", "b"),)), ("k", (("lt", "b", "c"), ("eq", "c", "d"))), ("h", (("gt", "e", "d"),))]
+>>> start = Start(rows, [("trans", (("lt", "d", "e"),))], ("lt", "a", "c"))
+>>> [picked(("name", "h"), rows), picked(("like", ("eq", "", "")), rows), picked(("all", ("", "", "d")), rows), picked(("at", 3), rows)]
+[[2], [1], [1, 2], []]
+>>> [picks_to(rows, 2)[:3], start.owners("goal"), len(start), start.things()]
+[[('at', 2), ('last',), ('like', ('', '', ''))], [(('goal', 0, 0),), (('goal', 1, 0), ('goal', 1, 1)), (('goal', 2, 0),)], 4, ['a', 'b', 'c', 'd', 'e']]
+>>> from scriptpicks.runs import closes, ends, meant, picks
+>>> from scriptpicks.scripts import Script
+>>> script = Script([("part", ("name", "k")), ("chain", ("at", 0), ("like", ("lt", "b", "")), "t"), ("close", ("last",))])
+>>> [picks(start, script), ends(start, script)[-1], closes(start, script)]
+[[[[1]], [[0], [1]], [[4]]], ('t', (('lt', 'a', 'c'),)), True]
+>>> [meant(start, script)[0], meant(start, script)[2], script.places()]
+[[[('goal', 1, 0), ('goal', 1, 1)]], [[('made', 1)]], [(1, 0)]]
+"""
+
+
+class ExamplesTest(unittest.TestCase):
+    def test_the_session(self):
+        session = doctest.DocTestParser().get_doctest(EXAMPLES, {}, "examples", None, None)
+        told = []
+        result = doctest.DocTestRunner(verbose=False).run(session, out=told.append)
+        self.assertEqual(result.failed, 0, "".join(told))
+        self.assertEqual(result.attempted, len(session.examples))

@@ -1,0 +1,67 @@
+import importlib
+import inspect
+import unittest
+
+FUNCTIONS = {
+    "words": ["is_integer(thing)", "is_name(thing)", "is_relation(thing)", "is_home(thing)", "fresh(names)"],
+    "atoms": ["is_atom(thing)", "is_fact(thing)", "is_pattern(thing)", "is_row(thing)", "fits(pattern, atom)",
+              "fits_fact(pattern, fact)", "narrower(one, other)", "turned(atom)", "turned_fact(fact)",
+              "turned_pattern(pattern)", "chained(one, other)", "both(one, other)", "patterns_of(atom)",
+              "atoms_of(patterns)"],
+    "picks": ["is_pick(thing)", "is_single(pick)", "surely(one, other)", "home_of(pick)", "bare(pick)", "name_of(pick)",
+              "place_of(pick)", "pattern_of(pick)", "picked(pick, rows)", "picks_to(rows, at)"],
+    "steps": ["is_step(thing)", "picks_of(step)", "with_pick(step, number, pick)", "done(goal, book, step, aim)"],
+    "runs": ["walk(start, script)", "ends(start, script)", "picks(start, script)", "owned(start, script)",
+             "meant(start, script)", "is_done(start, script)", "closes(start, script)"],
+}
+CLASSES = {
+    "errors": {"PickError": [], "Wrong": ["__init__(self, place)"], "NoRow": ["__init__(self, at)"],
+               "BadStep": ["__init__(self, index)"], "NoStep": ["__init__(self, index)"],
+               "NotPicked": ["__init__(self, number)"], "Stuck": [], "Stopped": ["__init__(self, index)"], "Closed": [],
+               "BadEdit": ["__init__(self, index)"], "Unlike": [], "HasPlace": ["__init__(self, index)"],
+               "TooMany": ["__init__(self, most)"], "Nothing": [], "NoDeed": [], "Full": ["__init__(self, limit)"],
+               "Refused": ["__init__(self, deed)"], "NoEntry": ["__init__(self, many)"], "NoText": [], "NoCommand": []},
+    "starts": {"Start": ["__init__(self, goal, book, aim)", "goal(self)", "book(self)", "rows(self, home)", "names(self)",
+                         "things(self)", "owners(self, home)", "row(self, home, at)", "with_row(self, home, at, row)",
+                         "without_row(self, home, at)", "with_aim(self, atom)"]},
+    "scripts": {"Script": ["__init__(self, steps)", "steps(self)", "names(self)", "patterns(self)", "places(self)",
+                           "with_step(self, index, step)", "without(self, index)", "swapped(self, index)"]},
+}
+SIGNS = {("starts", "Start"): ["__eq__", "__contains__", "__len__"],
+         ("scripts", "Script"): ["__eq__", "__len__", "__getitem__", "__add__"]}
+
+
+def written(name, function):
+    return name + "(" + ", ".join(inspect.signature(function).parameters) + ")"
+
+
+class InterfaceTest(unittest.TestCase):
+    def test_functions(self):
+        for file, functions in FUNCTIONS.items():
+            module = importlib.import_module("scriptpicks." + file)
+            for text in functions:
+                with self.subTest(file=file, text=text):
+                    name = text.partition("(")[0]
+                    function = getattr(module, name)
+                    self.assertEqual(function.__module__, module.__name__)
+                    self.assertEqual(written(name, function), text)
+
+    def test_classes(self):
+        for file, classes in CLASSES.items():
+            module = importlib.import_module("scriptpicks." + file)
+            for owner, methods in classes.items():
+                thing = getattr(module, owner)
+                self.assertEqual(thing.__module__, module.__name__)
+                for text in methods:
+                    with self.subTest(file=file, owner=owner, text=text):
+                        name = text.partition("(")[0]
+                        self.assertEqual(written(name, vars(thing)[name]), text)
+
+    def test_signs(self):
+        for (file, owner), names in SIGNS.items():
+            thing = getattr(importlib.import_module("scriptpicks." + file), owner)
+            for name in names:
+                self.assertIn(name, vars(thing))
+
+    def test_aim_is_a_property(self):
+        self.assertIsInstance(vars(importlib.import_module("scriptpicks.starts").Start)["aim"], property)
