@@ -26,6 +26,28 @@ EXAMPLES = """
 [[[[1]], [[0], [1]], [[4]]], ('t', (('lt', 'a', 'c'),)), True]
 >>> [meant(start, script)[0], meant(start, script)[2], script.places()]
 [[[('goal', 1, 0), ('goal', 1, 1)]], [[('made', 1)]], [(1, 0)]]
+>>> from scriptpicks.sessions import Session
+>>> from scriptpicks.truths import follows, possible, trail
+>>> [follows(rows, ("lt", "a", "e")), trail(rows, ("lt", "a", "c")), follows(rows, ("eq", "a", "c"))]
+[True, [(0, 0, False), (1, 0, False)], False]
+>>> session = Session(start)
+>>> session += ("drop", ("name", "h"))
+>>> [session.would(("call", ("last",), "m")), len(session.goal()), session.back(), len(session.goal())]
+[[[1]], 2, ('drop', ('name', 'h')), 3]
+>>> from scriptpicks.edits import Draft, edited, elements_in
+>>> from scriptpicks.licences import Licence
+>>> draft = edited(start, [("part", "goal", 1), ("put", "goal", 0, ("n", (("eq", "x", "y"),))), ("turn", "goal", 3)])
+>>> [draft.rows("goal")[3], elements_in(draft, "goal")]
+[('k', (('eq', 'd', 'c'),), (('goal', 1, 1),)), [(('new', 1), 1), (0, 1), (1, 2), (2, 1)]]
+>>> licence = Licence(goal="any", names=["h"], turn=[("goal", 1)], part=[("goal", 1)])
+>>> [licence.lets_all(start, draft.edits()), licence.lets(draft, ("put", "goal", 3, ("n", (("eq", "x", "y"),))))]
+[True, False]
+>>> from scriptpicks.held import Held
+>>> held = Held(start, script)
+>>> [held.outcome([("put", "goal", 3, ("k", (("eq", "x", "y"),)))]), held.outcome([("put", "goal", 0, ("n", (("eq", "x", "y"),)))])]
+[(0, 'other'), (1, 'other')]
+>>> [held.outcome([("call", "goal", 1, "m")]), held.outcome([("call", "goal", 1, "m")], pins=[0]), held.outcome([("out", "goal", 1)])]
+[(0, 'none'), None, (0, 'lost')]
 """
 
 

@@ -13,6 +13,9 @@ FUNCTIONS = {
     "steps": ["is_step(thing)", "picks_of(step)", "with_pick(step, number, pick)", "done(goal, book, step, aim)"],
     "runs": ["walk(start, script)", "ends(start, script)", "picks(start, script)", "owned(start, script)",
              "meant(start, script)", "is_done(start, script)", "closes(start, script)"],
+    "truths": ["holds(atom, values)", "all_hold(rows, values)", "follows(rows, atom)", "possible(rows)",
+               "apart(rows, atom)", "ring(rows)", "trail(rows, atom)", "closing(start)"],
+    "edits": ["is_edit(thing)", "edited(start, edits)", "elements_in(draft, home)"],
 }
 CLASSES = {
     "errors": {"PickError": [], "Wrong": ["__init__(self, place)"], "NoRow": ["__init__(self, at)"],
@@ -26,13 +29,26 @@ CLASSES = {
                          "without_row(self, home, at)", "with_aim(self, atom)"]},
     "scripts": {"Script": ["__init__(self, steps)", "steps(self)", "names(self)", "patterns(self)", "places(self)",
                            "with_step(self, index, step)", "without(self, index)", "swapped(self, index)"]},
+    "sessions": {"Session": ["__init__(self, start)", "do(self, step)", "would(self, step)", "goal(self)", "start(self)",
+                             "script(self)", "back(self)", "again(self)", "trial(self, act)", "copied(self)"]},
+    "edits": {"Draft": ["__init__(self, start)", "do(self, edit)", "rows(self, home)", "edits(self)", "back(self)",
+                        "start(self)", "first(self)", "copied(self)"]},
+    "licences": {"Licence": ["__init__(self, *, goal='none', book='none', names=(), patterns=(), out=(), call=(), turn=(), "
+                             "part=(), more=())", "lets(self, draft, edit)", "lets_all(self, start, edits)",
+                             "within(self, other)", "where(self, home)", "names(self)", "patterns(self)",
+                             "sorts(self, home, k)", "told(self, sort)"]},
+    "held": {"Held": ["__init__(self, start, script)", "start(self)", "script(self)", "meant(self)", "misses(self, edits)",
+                      "goals(self, edits)", "lost(self, edits)", "outcome(self, edits, *, pins=())"]},
 }
 SIGNS = {("starts", "Start"): ["__eq__", "__contains__", "__len__"],
-         ("scripts", "Script"): ["__eq__", "__len__", "__getitem__", "__add__"]}
+         ("scripts", "Script"): ["__eq__", "__len__", "__getitem__", "__add__"],
+         ("sessions", "Session"): ["__eq__", "__len__", "__iadd__"], ("edits", "Draft"): ["__eq__", "__len__", "__iadd__"],
+         ("licences", "Licence"): ["__eq__", "__and__"]}
+PROPERTIES = [("starts", "Start", "aim"), ("sessions", "Session", "closed")]
 
 
 def written(name, function):
-    return name + "(" + ", ".join(inspect.signature(function).parameters) + ")"
+    return name + str(inspect.signature(function))
 
 
 class InterfaceTest(unittest.TestCase):
@@ -63,5 +79,7 @@ class InterfaceTest(unittest.TestCase):
             for name in names:
                 self.assertIn(name, vars(thing))
 
-    def test_aim_is_a_property(self):
-        self.assertIsInstance(vars(importlib.import_module("scriptpicks.starts").Start)["aim"], property)
+    def test_properties(self):
+        for file, owner, name in PROPERTIES:
+            thing = getattr(importlib.import_module("scriptpicks." + file), owner)
+            self.assertIsInstance(vars(thing)[name], property)
