@@ -43,11 +43,14 @@ EXAMPLES = """
 >>> [licence.lets_all(start, draft.edits()), licence.lets(draft, ("put", "goal", 3, ("n", (("eq", "x", "y"),))))]
 [True, False]
 >>> from scriptpicks.held import Held
+>>> from scriptpicks.lives import effect, life
 >>> held = Held(start, script)
 >>> [held.outcome([("put", "goal", 3, ("k", (("eq", "x", "y"),)))]), held.outcome([("put", "goal", 0, ("n", (("eq", "x", "y"),)))])]
 [(0, 'other'), (1, 'other')]
 >>> [held.outcome([("call", "goal", 1, "m")]), held.outcome([("call", "goal", 1, "m")], pins=[0]), held.outcome([("out", "goal", 1)])]
 [(0, 'none'), None, (0, 'lost')]
+>>> [effect(held, "goal", 0, ("n", (("lt", "b", "y"),))), effect(held, "goal", 3, ("n", (("lt", "b", "y"),)))]
+[([], {(1, 0): 1}), ([1], {(1, 0): 0})]
 """
 
 

@@ -16,6 +16,12 @@ FUNCTIONS = {
     "truths": ["holds(atom, values)", "all_hold(rows, values)", "follows(rows, atom)", "possible(rows)",
                "apart(rows, atom)", "ring(rows)", "trail(rows, atom)", "closing(start)"],
     "edits": ["is_edit(thing)", "edited(start, edits)", "elements_in(draft, home)"],
+    "classes": ["names_of(held, licence)", "facts_of(held, licence)", "newcomers(held, licence)"],
+    "lives": ["life(held, home, gap, row)", "lives(held, licence)", "harmless(held, licence, home, gap)",
+              "effect(held, home, gap, row)"],
+    "changes": ["changes(held, licence, home, k)"],
+    "sums": ["states(held, licence, step, *, most=20000)", "is_closed(held, licence, step, thing)",
+             "can_miss(held, step, state)"],
 }
 CLASSES = {
     "errors": {"PickError": [], "Wrong": ["__init__(self, place)"], "NoRow": ["__init__(self, at)"],
