@@ -57,12 +57,17 @@ def turned_pattern(pattern):
 
 def fits(pattern, atom):
     """Return whether an atom fits a pattern."""
-    return all([asked in ("", part) for asked, part in zip(pattern, atom)])
+    relation, left, right = pattern
+    # This is asked more often than all else: so it is written out.
+    return relation in ("", atom[0]) and left in ("", atom[1]) and right in ("", atom[2])
 
 
 def fits_fact(pattern, fact):
     """Return whether an atom of a fact fits a pattern."""
-    return any([fits(pattern, atom) for atom in fact])
+    for atom in fact:
+        if fits(pattern, atom):
+            return True
+    return False
 
 
 def chained_relation(one, other):
@@ -107,6 +112,16 @@ def known_patterns(atom, known):
     return tuple([pattern for pattern in patterns_of(atom) if pattern in known])
 
 
+def class_of(atom, known):
+    """Return what tells the class of an atom: the known patterns that it fits, and those that the turned one fits."""
+    return (known_patterns(atom, known), known_patterns(turned(atom), known))
+
+
+def atoms_with(names):
+    """Return the ascending list of the atoms with names of an ascending list."""
+    return [(relation, left, right) for relation in sorted(RELATIONS) for left in names for right in names]
+
+
 def names_in(patterns):
     """Return the list of the left and right names that stand in patterns."""
     return [part for pattern in patterns for part in pattern[1:] if part != ""]
@@ -118,11 +133,7 @@ def atoms_of(patterns):
     names = sorted(set(names + [fresh(names)]))
     known = {pattern: True for pattern in patterns}
     least = {}
-    for relation in sorted(RELATIONS):
-        for left in names:
-            for right in names:
-                atom = (relation, left, right)
-                told = (known_patterns(atom, known), known_patterns(turned(atom), known))
-                least.setdefault(told, atom)
+    for atom in atoms_with(names):
+        least.setdefault(class_of(atom, known), atom)
     # The atoms are tried in ascending order, and a dict keeps the order of its keys.
     return list(least.values())

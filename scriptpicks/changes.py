@@ -9,14 +9,15 @@ from scriptpicks.solos import adds_in, misses_in, own_targets, spot_of_row, stag
 ADDED = -1
 
 
-def edits_for(held, licence, home, k):
-    """Return the list of the tuples (sort, rest) of the edits that a licence allows for a row of the start."""
-    sorts = licence.sorts(home, k)
+def edits_for(sorts, is_short, names, atoms):
+    """Return the list of the tuples (sort, rest) of the edits of these sorts, with names for calls and atoms for mores.
+
+    is_short is whether the row has one atom in the start.
+    """
     edits = [(sort, ()) for sort in ("out", "turn", "part") if sort in sorts]
     if "call" in sorts:
-        edits = edits + [("call", (name,)) for name in names_of(held, licence)]
-    if "more" in sorts and len(held.start().row(home, k)[1]) == 1:
-        atoms = allowed_atoms(licence, patterns_asked(held, licence) + [held.start().aim])
+        edits = edits + [("call", (name,)) for name in names]
+    if "more" in sorts and is_short:
         edits = edits + [("more", (atom, side)) for atom in atoms for side in (0, 1)]
     return edits
 
@@ -39,10 +40,13 @@ def next_rows(rows, edits, home, k):
     return result
 
 
-def ways_to_rows(held, licence, home, k):
-    """Return the dict from the tuples of rows to which a row can be changed to a shortest list of edits."""
-    edits = edits_for(held, licence, home, k)
-    name, fact = held.start().row(home, k)
+def ways_to_rows(row, sorts, names, atoms, home, k):
+    """Return the dict from the tuples of rows to which a row of the start can be changed to a shortest list of edits.
+
+    The edits are of these sorts; names are those for calls, atoms those for mores.
+    """
+    name, fact = row
+    edits = edits_for(sorts, len(fact) == 1, names, atoms)
     rows = ((name, fact, tuple(range(len(fact)))),)
     ways, left = {rows: []}, [rows]
     while left != []:
@@ -73,7 +77,9 @@ def told_alone(held, own, home, k, rows):
 def changes(held, licence, home, k):
     """Return the list of the tuples (rows, edits, lost, misses, adds) of the changes of a row of the start."""
     own = own_targets(held, home, k)
-    ways = ways_to_rows(held, licence, home, k)
+    start = held.start()
+    atoms = allowed_atoms(licence, patterns_asked(held, licence) + [start.aim])
+    ways = ways_to_rows(start.row(home, k), licence.sorts(home, k), names_of(held, licence), atoms, home, k)
     # The row as it is stands first.
     before = told_alone(held, own, home, k, next(iter(ways), None))[2]
     result = []

@@ -17,6 +17,11 @@ def spot_of_gap(gap):
     return 2 * gap
 
 
+def is_gap(spot):
+    """Return whether a spot is a gap, and not a row of the start."""
+    return spot % 2 == 0
+
+
 def spot_of_row(number):
     """Return the spot, in its home, of the row of the start with this number."""
     return 2 * number + 1
@@ -32,12 +37,23 @@ def copied_by(row):
     return tuple([(1, number) for number in numbers_of(row[2][0])])
 
 
+def is_made(owner):
+    """Return whether an owner is that of an atom that was chained, or of a copy of one."""
+    return flat(owner)[-2] == "made"
+
+
+def place_of_made(owner):
+    """Return the place of the row that holds the owner of an atom that was chained, or of a copy of one."""
+    numbers = flat(owner)
+    return tuple([(1, number) for number in numbers[:-2] + numbers[-1:]])
+
+
 def place_of_meant(target):
     """Return the place of the row that a single pick meant."""
-    owner = flat(target[1][0])
-    if owner[-2] == "made":
-        return tuple([(1, number) for number in owner[:-2] + owner[-1:]])
-    return tuple([(1, number) for number in owner[:-3]]) + ((0, spot_of_row(owner[-2])),)
+    owner = target[1][0]
+    if is_made(owner):
+        return place_of_made(owner)
+    return tuple([(1, number) for number in numbers_of(owner)]) + ((0, spot_of_row(flat(owner)[-2])),)
 
 
 def own_target(target, home, number):
@@ -90,11 +106,16 @@ def view_of(target, rows):
     return (False, [copied_by(row) for row in reached], place_of_meant(target))
 
 
-def views_of(own, stages, home, rows, many):
-    """Return the list of the tuples (step, number, is_place, view) of the picks of the first steps, so many."""
+def views_at(own, stages, home, rows, index):
+    """Return the list of the tuples (step, number, is_place, view) of the picks of a step."""
     book = rows if home == "book" else []
     return [(index, number, place_of(target[0]) is not None, view_of(target, rows_of(target[0], stages[index], book)))
-            for index in range(many) for number, target in enumerate(own[index])]
+            for number, target in enumerate(own[index])]
+
+
+def views_of(own, stages, home, rows, many):
+    """Return the list of the tuples (step, number, is_place, view) of the picks of the first steps, so many."""
+    return [view for index in range(many) for view in views_at(own, stages, home, rows, index)]
 
 
 def misses_in(views, spot):

@@ -8,7 +8,7 @@ itself, or None if the pick is not single.
 
 from scriptpicks.atoms import fits_fact
 from scriptpicks.marks import marked
-from scriptpicks.picks import home_of, is_single, pattern_of
+from scriptpicks.picks import bare, home_of, is_single, pattern_of, picked
 from scriptpicks.runs import meant, owned, picks
 from scriptpicks.steps import picks_of
 
@@ -49,13 +49,13 @@ def held_many(wanted, rows):
 def held_rows(target, rows):
     """Return the indexes of the marked rows on which a pick acts, or None if what it meant is not there."""
     pick, owners, wanted, fact = target
+    if len(wanted) == 0:
+        return [] if is_single(pick) else picked(bare(pick), rows)
     many = [held_many(wanted, [row]) for row in rows]
     if sum(many) < len(wanted):
         return None
     if not is_single(pick):
         return [at for at, row in enumerate(rows) if many[at] > 0 or fits_fact(pattern_of(pick), row[1])]
-    if len(wanted) == 0:
-        return []
     return [many.index(len(wanted))] if len(wanted) in many else None
 
 

@@ -51,6 +51,15 @@ EXAMPLES = """
 [(0, 'none'), None, (0, 'lost')]
 >>> [effect(held, "goal", 0, ("n", (("lt", "b", "y"),))), effect(held, "goal", 3, ("n", (("lt", "b", "y"),)))]
 [([], {(1, 0): 1}), ([1], {(1, 0): 0})]
+>>> from scriptpicks.pins import loose, miss_edit
+>>> from scriptpicks.strays import fates, first_edit
+>>> put = Licence(goal="any", names=["k"])
+>>> [fates(held, put), loose(held, put), fates(held, Licence(goal="back"))]
+[[[], ['misses'], []], [1], [['misses'], ['misses'], []]]
+>>> [held.outcome(first_edit(held, put, 1, "misses")), first_edit(held, put, 0, "misses")]
+[(1, 'other'), None]
+>>> fates(held, Licence(turn=[("goal", 0), ("goal", 2)], out=[("goal", 1)]))
+[['lost'], ['lost'], []]
 """
 
 

@@ -22,6 +22,12 @@ FUNCTIONS = {
     "changes": ["changes(held, licence, home, k)"],
     "sums": ["states(held, licence, step, *, most=20000)", "is_closed(held, licence, step, thing)",
              "can_miss(held, step, state)"],
+    "strays": ["first_edit(held, licence, step, word)", "fates(held, licence)", "is_sure(held, licence, step)",
+               "is_steady(held, licence)"],
+    "pins": ["loose(held, licence)", "miss_edit(held, licence, step)", "pin_edit(held, licence, pins)",
+             "enough(held, licence, pins)"],
+    "alike": ["are_alike(one, other, licence)", "parting_edits(one, other, licence)", "profile(held, home, gap, row)"],
+    "swaps": ["may_swap(held, licence, index)", "swaps(held, licence)"],
 }
 CLASSES = {
     "errors": {"PickError": [], "Wrong": ["__init__(self, place)"], "NoRow": ["__init__(self, at)"],
