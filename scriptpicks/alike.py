@@ -3,7 +3,7 @@
 from scriptpicks.errors import HasPlace, Unlike
 from scriptpicks.lives import effect, life
 from scriptpicks.options import joined
-from scriptpicks.twins import shortest_pair, shown, weighed
+from scriptpicks.twins import last_goal, shortest_pair, weighed
 
 
 def check_places(script):
@@ -19,7 +19,8 @@ def parting_edits(one, other, licence):
         raise Unlike()
     check_places(one.script())
     check_places(other.script())
-    if shown(one.goals([])[-1]) != shown(other.goals([])[-1]):
+    table = {}
+    if last_goal(one, table) != last_goal(other, table):
         return []
     alone, stands = weighed([one, other], licence)
     pair = shortest_pair(stands, alone)

@@ -13,6 +13,7 @@ from scriptpicks.lives import marked_newcomer
 from scriptpicks.solos import (
     copied_by, is_gap, is_made, misses_in, own_targets, place_of_made, spot_of_gap, spot_of_row, stages_of, views_of)
 from scriptpicks.steps import NAMING
+from scriptpicks.targets import flat
 from scriptpicks.words import HOMES, fresh
 
 # Chained rows are of no element: their places tell of no spot in a home.
@@ -57,6 +58,36 @@ def views_and_last(held, own, home, rows):
 def shown(rows):
     """Return the names, facts and roots of marked rows."""
     return [(name, fact, roots) for name, fact, owners, roots in rows]
+
+
+def code_of(owner, codes):
+    """Return the code of the root of an atom; codes has those of the atoms that the steps chained."""
+    numbers = flat(owner)
+    return codes[numbers[-1]] if is_made(owner) else numbers[-3:]
+
+
+def codes_of_made(held, table):
+    """Return the list, for each step, of the code of the root of the atom that it chained, or None.
+
+    Two roots are equal if their codes are. A root may be twice as long as those
+    of which it was chained: so the codes are compared. table has those of the
+    pairs of roots that were chained, and gets the new ones.
+    """
+    codes = []
+    for step, targets in zip(held.script().steps(), held.targets()):
+        code = None
+        if step[0] == "chain":
+            pair = tuple([code_of(target[1][0], codes) for target in targets])
+            code = table.setdefault(pair, len(table))
+        codes.append(code)
+    return codes
+
+
+def last_goal(held, table):
+    """Return the names, facts and codes of the roots of the last goal in the run of the start itself."""
+    codes = codes_of_made(held, table)
+    return [(name, fact, tuple([code_of(owner, codes) for owner in owners]))
+            for name, fact, owners, roots in held.goals([])[-1]]
 
 
 def twin_of(helds, owns, home, rows):

@@ -92,6 +92,31 @@ class PartingTest(AlikeCase):
         one, other = held(("drop", H), ("call", K, "m"), start=start), held(("drop", K), ("call", H, "m"), start=start)
         self.assertEqual(self.many(one, other, Licence()), 0)
 
+    def test_the_roots_of_chained_rows(self):
+        start = Start([("h", (("eq", "a", "b"),)), ("k", (("eq", "a", "b"),)), ("m", (("eq", "b", "b"),))], [], ATOM)
+        one, other = held(("chain", H, ("name", "m"), "t"), start=start), held(("chain", K, ("name", "m"), "t"), start=start)
+        self.assertEqual(self.many(one, other, Licence()), 0)
+        again = [("chain", T, ("name", "m"), "t"), ("copy", ("all", ("eq", "", "b")), "n"), ("drop", ("name", "h"))]
+        self.assertEqual(self.many(Held(start, one.script() + Script(again)), Held(start, other.script() + Script(again)), Licence()), 0)
+        self.assertIsNone(self.many(Held(start, one.script() + Script(again)), Held(start, one.script() + Script(again)), FULL))
+        # The order of the two counts, and a copy has the root of what was copied.
+        loop = Start([("h", (("eq", "a", "a"),)), ("k", (("eq", "a", "a"),))], [], ATOM)
+        self.assertEqual(self.many(held(("chain", H, K, "t"), start=loop), held(("chain", K, H, "t"), start=loop), Licence()), 0)
+        one = held(("copy", H, "h"), ("chain", H, K, "t"), ("drop", ("like", ("eq", "a", "a"))), start=loop)
+        other = held(("chain", H, K, "t"), ("copy", H, "h"), ("call", T, "t"), ("turn", K), ("turn", K), start=loop)
+        self.assertEqual(self.many(one, other, Licence()), 0)
+        one = held(("copy", H, "h"), ("chain", H, K, "t"), ("drop", H), start=loop)
+        self.assertIsNone(self.many(one, held(("chain", H, K, "t"), start=loop), Licence(turn=[("goal", 0)])))
+
+    def test_roots_that_are_long(self):
+        # Each root is twice as long as the one ahead.
+        start = Start([("h", (("eq", "a", "a"),)), ("k", (("eq", "a", "a"),))], [], ATOM)
+        steps = [("chain", LAST, LAST, "t")] * 39
+        one, other = held(*steps, ("turn", H), start=start), held(("turn", H), *steps, start=start)
+        self.assertIs(are_alike(one, other, Licence(goal="front")), True)
+        self.assertEqual(parting_edits(one, held(*steps[1:], ("turn", H), start=start), Licence()), [])
+        self.assertEqual(parting_edits(one, held(("chain", H, H, "t"), *steps[1:], start=start), Licence()), [])
+
     def test_an_outcome_of_the_one_alone(self):
         one, other = held(("turn", LAST)), held(("turn", H))
         self.assertIsNone(self.many(one, other, Licence(goal="front", turn=ROWS, out=ROWS[:1])))
@@ -132,6 +157,13 @@ class PartingTest(AlikeCase):
         one, other = held(("call", ("all", ("eq", "q", "")), "a")), held()
         self.assertEqual(self.many(one, other, Licence(goal="front")), 1)
         self.assertIsNone(self.many(one, other, Licence(goal="front", patterns=[("eq", "q", "")])))
+        # The name is none that is barred, and none for which a step asks.
+        self.assertEqual(self.many(one, other, Licence(goal="front", names=["b", "c"])), 1)
+        one, other = held(("turn", H), ("call", ("all", ("eq", "q", "")), "a")), held(("turn", H))
+        self.assertEqual(self.many(one, other, Licence(goal="back", names=["b", "c"])), 1)
+        start = Start([("a", (("eq", "a", "b"),))], [], ATOM)
+        one, other = held(("turn", ("name", "a")), ("drop", TO_LT), start=start), held(("turn", ("name", "a")), start=start)
+        self.assertEqual(self.many(one, other, Licence(goal="back")), 1)
         start = Start([("a", (("eq", "a", "b"),)), ("b", (("lt", "a", "b"),))], [], ATOM)
         one, other = held(("call", TO_EQ, "a"), start=start), held(start=start)
         self.assertEqual(self.many(one, other, Licence(call=[("goal", 0)])), 1)
@@ -164,7 +196,9 @@ class PartingTest(AlikeCase):
             self.assertEqual(self.many(one, other, Licence(goal=place)), 2)
             self.assertIsNone(self.many(one, other, Licence(goal=place, patterns=[("eq", "", "")])))
             self.assertIsNone(self.many(one, other, Licence(book=place)))
-        # A row of the start in the place of one of them.
+        # A row of the start in the place of one of them, with no edits that do not matter.
+        self.assertEqual(self.many(one, other, Licence(goal="front", turn=[("goal", 0)], call=[("goal", 0)], patterns=[("lt", "", "")])), 2)
+        self.assertEqual(self.many(one, other, Licence(goal="back", turn=[("goal", 0)], call=[("goal", 0)], more=[("goal", 0)])), 2)
         self.assertEqual(self.many(one, other, Licence(goal="front", turn=[("goal", 0)], patterns=[("lt", "", "")])), 2)
         self.assertEqual(self.many(one, other, Licence(more=[("goal", 0)], turn=[("goal", 0)])), None)
         one = held(("copy", ("book", TO_EQ), "m"), ("copy", ("book", TO_LT), "m"), start=start)
@@ -194,9 +228,24 @@ class PartingTest(AlikeCase):
         start = Start([("h", (("eq", "b", "a"),)), ("k", (("eq", "a", "b"),))], [], ATOM)
         one = held(("copy", ("all", ("lt", "", "")), "m"), ("turn", ("like", ("eq", "a", "b"))), start=start)
         other = held(("copy", ("all", ("lt", "", "")), "m"), ("turn", K), start=start)
-        licence = Licence(more=ROWS[:1], turn=ROWS[:1], out=ROWS[:1])
+        licence = Licence(more=ROWS[:1], turn=ROWS[:1], out=ROWS[:1], call=ROWS[:1])
         self.assertEqual(sorted(edit[0] for edit in self.parting(one, other, licence)), ["more", "turn"])
+        # A newcomer takes one edit.
+        licence = Licence(more=ROWS[:1], turn=ROWS[:1], goal="back", names=["k"])
+        self.assertEqual(self.many(one, other, licence), 1)
         self.assertIsNone(self.many(one, other, licence & Licence(turn=ROWS[:1], out=ROWS[:1])))
+
+    def test_three_edits_of_two_elements(self):
+        # What turns the row so that it is copied takes it away from the first step, if nothing is added; a newcomer is the other copy.
+        start = Start([("h", (("eq", "b", "a"),))], [], ATOM)
+        one = held(("call", ("like", ("", "b", "")), "h"), ("copy", ("all", ("eq", "a", "b")), "m"), ("copy", ("all", ("gt", "", "")), "m"), start=start)
+        other = Held(start, one.script().swapped(1))
+        licence = Licence(goal="front", patterns=[("eq", "a", "b")], turn=ROWS[:1], more=ROWS[:1], call=ROWS[:1])
+        self.assertEqual(sorted(edit[0] for edit in self.parting(one, other, licence)), ["more", "put", "turn"])
+        universe = Universe(random.Random(126), [one.script()], licence, start.aim, 2)
+        for edits in universe.lists(start, licence, 2, 100):
+            self.assertIs(parted_by(one, other, edits), False)
+        self.assertIsNone(self.many(one, other, Licence(turn=ROWS[:1], more=ROWS[:1], patterns=[("eq", "a", "b")])))
 
     def test_a_close_and_a_chain(self):
         start = Start([("h", (("lt", "a", "b"),)), ("k", (("lt", "b", "c"),))], [], ("lt", "a", "b"))

@@ -98,6 +98,9 @@ class ExamplesTest(PinCase):
         told = self.misses(one, licence)
         self.assertEqual({step: sorted(edit[0] for edit in edits) for step, edits in told.items()}, {1: ["more", "turn"]})
         self.assertEqual(self.many(one, Licence(more=ROWS[:1], turn=ROWS[:1], patterns=[("lt", "", "")])), {})
+        # Wherever there is a shorter way, ahead of the row or behind it, it is taken.
+        for place in ("front", "back", "any"):
+            self.assertEqual(self.many(one, Licence(goal=place, more=ROWS[:1], turn=ROWS[:1])), {1: 1})
         self.assertEqual(self.many(one, Licence(more=ROWS[:1], turn=ROWS[1:2])), {1: 1})
 
     def test_picks_by_at(self):
