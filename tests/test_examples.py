@@ -2,7 +2,7 @@ import doctest
 import unittest
 
 # The document's examples, which are one session.
-EXAMPLES = """
+EXAMPLES = r"""
 >>> from scriptpicks.atoms import atoms_of, both, chained, fits, patterns_of, turned, turned_pattern
 >>> from scriptpicks.words import fresh
 >>> [turned(("lt", "a", "b")), turned_pattern(("lt", "a", "")), chained(("eq", "a", "b"), ("lt", "b", "c"))]
@@ -60,6 +60,23 @@ EXAMPLES = """
 [(1, 'other'), None]
 >>> fates(held, Licence(turn=[("goal", 0), ("goal", 2)], out=[("goal", 1)]))
 [['lost'], ['lost'], []]
+>>> from scriptpicks.alike import are_alike
+>>> from scriptpicks.choices import choices, mended
+>>> from scriptpicks.swaps import swaps
+>>> other = Held(start, Script([("part", ("name", "k")), ("chain", ("like", ("eq", "a", "")), ("like", ("lt", "b", "")), "t"), ("turn", ("name", "h"))]))
+>>> none = Licence(goal="front", patterns=[("eq", "", "")])
+>>> [swaps(other, none), are_alike(other, Held(start, other.script().swapped(1)), none), choices(other, none, 1, 0)[:2]]
+[[1], True, [('like', ('', '', 'b')), ('like', ('', 'a', ''))]]
+>>> [mended(held, none)[0][1], mended(held, none)[1]]
+[('chain', ('like', ('', '', 'b')), ('like', ('lt', 'b', '')), 't'), []]
+>>> from scriptpicks.desk import Desk
+>>> from scriptpicks.notation import show_script, show_start
+>>> from scriptpicks.readers import read_step
+>>> [show_start(start).split("\n")[1:3], show_script(script).split("\n")[1]]
+[['goal k: b < c & c = d', 'goal h: e > d'], 'chain at 0 with like b < ? as t']
+>>> desk = Desk(start, script)
+>>> [desk.execute("let goal back"), desk.execute("sure 0"), desk.execute("try out goal 1"), desk.execute("loose")]
+['done', 'misses', '0 lost', '0 1']
 """
 
 

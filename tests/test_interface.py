@@ -28,6 +28,11 @@ FUNCTIONS = {
              "enough(held, licence, pins)"],
     "alike": ["are_alike(one, other, licence)", "parting_edits(one, other, licence)", "profile(held, home, gap, row)"],
     "swaps": ["may_swap(held, licence, index)", "swaps(held, licence)"],
+    "choices": ["choices(held, licence, step, number)", "mended(held, licence)"],
+    "notation": ["show_atom(atom)", "show_pattern(pattern)", "show_row(row)", "show_pick(pick)", "show_step(step)",
+                 "show_edit(edit)", "show_start(start)", "show_script(script)", "show_edits(edits)", "show_licence(licence)"],
+    "readers": ["read_atom(text)", "read_pattern(text)", "read_row(text)", "read_pick(text)", "read_step(text)",
+                "read_edit(text)", "read_start(text)", "read_script(text)", "read_edits(text)", "read_licence(text)"],
 }
 CLASSES = {
     "errors": {"PickError": [], "Wrong": ["__init__(self, place)"], "NoRow": ["__init__(self, at)"],
@@ -51,11 +56,14 @@ CLASSES = {
                              "sorts(self, home, k)", "told(self, sort)"]},
     "held": {"Held": ["__init__(self, start, script)", "start(self)", "script(self)", "meant(self)", "misses(self, edits)",
                       "goals(self, edits)", "lost(self, edits)", "outcome(self, edits, *, pins=())"]},
+    "book": {"Book": ["__init__(self, start, script)", "do(self, deed)", "back(self)", "again(self)", "start(self)", "script(self)",
+                      "log(self)", "past(self, many)", "tried(self, deed)", "copied(self)"]},
+    "desk": {"Desk": ["__init__(self, start, script)", "execute(self, line)", "book(self)", "licence(self)"]},
 }
 SIGNS = {("starts", "Start"): ["__eq__", "__contains__", "__len__"],
          ("scripts", "Script"): ["__eq__", "__len__", "__getitem__", "__add__"],
          ("sessions", "Session"): ["__eq__", "__len__", "__iadd__"], ("edits", "Draft"): ["__eq__", "__len__", "__iadd__"],
-         ("licences", "Licence"): ["__eq__", "__and__"]}
+         ("licences", "Licence"): ["__eq__", "__and__"], ("book", "Book"): ["__eq__", "__len__"]}
 PROPERTIES = [("starts", "Start", "aim"), ("sessions", "Session", "closed")]
 
 
