@@ -84,11 +84,11 @@ def can_pick_miss(held, licence, step, number, pick):
 
 def picks_to_meant(held, step, number):
     """Return the ascending list of the picks that pick, in the run of the start, what a single pick picks."""
-    pick = picks_of(held.script()[step])[number]
-    start = held.start()
-    goals = list(walk(start, held.script()))
+    start, script = held.start(), held.script()
+    pick = picks_of(script[step])[number]
+    goals = list(walk(start, script))
     rows = start.book() if home_of(pick) == "book" else goals[step]
-    at = picks(start, held.script())[step][number][0]
+    at = picks(start, script)[step][number][0]
     return [looking_alike(pick, other) for other in picks_to(rows, at)]
 
 

@@ -53,7 +53,7 @@ def joined(licence, chosen):
             edits.append((sort, home, at + many.get(home, 0), row))
             many[home] = many.get(home, 0) + 1
     # What is done from behind leaves the indexes of the rows ahead as they are.
-    for told in reversed(chosen):
+    for told in chosen[::-1]:
         if not is_at_back(licence, told):
             edits = edits + told
     return edits

@@ -148,5 +148,7 @@ class RulesTest(unittest.TestCase):
                 if isinstance(node, ast.Call) and isinstance(node.func, ast.Name):
                     if node.func.id in ("any", "all", "sum", "min", "max", "sorted"):
                         self.assertNotIsInstance(node.args[0], ast.GeneratorExp, file)
+                    if node.func.id == "reversed":
+                        self.assertRegex(ast.unparse(node.args[0]), r"^(list|tuple|sorted|range)\(", file)
                 if isinstance(node, ast.Call) and isinstance(node.func, ast.Attribute):
                     self.assertNotEqual(node.func.attr, "sort", file)
