@@ -11,7 +11,7 @@ from scriptpicks.starts import Start
 from scriptpicks.steps import picks_of, with_pick
 from tests.test_runs import ALL, H, K, LAST, LAW, ONE, PAIR, SCRIPT, START, THREE, TWO
 from tests.test_strays import ATOM, EQ, FULL, LT, ROWS, held, run_under
-from tests.trials import SORTS, Trials, Universe, rows_of
+from tests.trials import EVERY, SORTS, Trials, Universe, rows_of
 
 T = ("name", "t")
 TO_EQ, TO_LT = ("all", ("eq", "", "")), ("all", ("lt", "", ""))
@@ -243,7 +243,7 @@ class PartingTest(AlikeCase):
         licence = Licence(goal="front", patterns=[("eq", "a", "b")], turn=ROWS[:1], more=ROWS[:1], call=ROWS[:1])
         self.assertEqual(sorted(edit[0] for edit in self.parting(one, other, licence)), ["more", "put", "turn"])
         universe = Universe(random.Random(126), [one.script()], licence, start.aim, 2)
-        for edits in universe.lists(start, licence, 2, 100):
+        for edits in universe.lists(start, licence, 2, EVERY):
             self.assertIs(parted_by(one, other, edits), False)
         self.assertIsNone(self.many(one, other, Licence(turn=ROWS[:1], more=ROWS[:1], patterns=[("eq", "a", "b")])))
 
@@ -372,7 +372,7 @@ class AllEditsTest(AlikeCase):
         for start, one, other in pairs(Trials(chance, False), 240, 2, 1):
             licence = trials_of(chance, one).licence(start, ["h", "k", "m"], chance.choice([0.2, 0.4]))
             universe = Universe(chance, [one.script(), other.script()], licence, start.aim, 1)
-            told.append(self.compare(one, other, licence, universe, 2, 40))
+            told.append(self.compare(one, other, licence, universe, 2, EVERY))
         self.assertGreater(told.count(None), 20)
         self.assertGreater(told.count(1), 10)
 
@@ -392,7 +392,7 @@ class AllEditsTest(AlikeCase):
         for place in ("front", "back", "any"):
             licence = Licence(goal=place, call=[("goal", 0)], out=[("goal", 0)])
             universe = Universe(chance, [one.script(), other.script()], licence, start.aim, 3)
-            self.assertEqual(self.compare(one, other, licence, universe, 2, 100), 2)
+            self.assertEqual(self.compare(one, other, licence, universe, 2, EVERY), 2)
 
 
 class WholeTest(AlikeCase):

@@ -12,7 +12,7 @@ from scriptpicks.starts import Start
 from scriptpicks.steps import picks_of, with_pick
 from tests.test_runs import ALL, H, K, LAST, ONE, SCRIPT, START, THREE, TWO
 from tests.test_strays import ATOM, FULL, ROWS, held, run_under
-from tests.trials import SORTS, WORDS, Trials, Universe, rows_of
+from tests.trials import EVERY, SORTS, WORDS, Trials, Universe, rows_of
 
 
 def tried_picks(one, step, number):
@@ -193,7 +193,7 @@ class AllEditsTest(ChoicesCase):
             for pick in chance.sample(tried_picks(one, step, number), 1):
                 other = with_other(one, step, number, pick)
                 universe = Universe(chance, [other.script()], licence, start.aim, 2)
-                words = {word_of(other, edits, step, number) for edits in universe.lists(start, licence, 2, 18)} - {None}
+                words = {word_of(other, edits, step, number) for edits in universe.lists(start, licence, 2, EVERY)} - {None}
                 if pick in picked:
                     self.assertEqual(words, set())
                 seen.append((pick in picked, bool(words)))

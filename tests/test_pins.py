@@ -9,7 +9,7 @@ from scriptpicks.starts import Start
 from scriptpicks.strays import fates
 from tests.test_runs import ALL, H, K, LAST, ONE, SCRIPT, START, TWO
 from tests.test_strays import ATOM, FULL, ROWS, held, run_under
-from tests.trials import SORTS, WORDS, Trials, Universe, rows_of
+from tests.trials import EVERY, SORTS, WORDS, Trials, Universe, rows_of
 
 
 class PinCase(unittest.TestCase):
@@ -144,7 +144,7 @@ class AllEditsTest(PinCase):
             one = Held(start, trials.script(start, 5))
             licence = trials.licence(start, ["h", "k", "m"], chance.choice([0.2, 0.4]))
             universe = Universe(chance, [one.script()], licence, start.aim, 1)
-            seen += self.compare(one, licence, universe.lists(start, licence, 2, 60))[0]
+            seen += self.compare(one, licence, universe.lists(start, licence, 2, EVERY))[0]
         self.assertGreater(seen, 1500)
 
     def test_where_it_takes_two_edits(self):
@@ -152,7 +152,7 @@ class AllEditsTest(PinCase):
         one = held(("copy", ("all", ("lt", "", "")), "m"), ("turn", ("like", ("eq", "a", "b"))), start=start)
         licence = Licence(more=ROWS[:1], turn=ROWS[:1], call=ROWS[:1], out=ROWS[:1])
         universe = Universe(random.Random(112), [one.script()], licence, start.aim, 3)
-        seen, lengths = self.compare(one, licence, universe.lists(start, licence, 3, 100))
+        seen, lengths = self.compare(one, licence, universe.lists(start, licence, 3, EVERY))
         self.assertEqual(lengths, [2])
         self.assertGreater(seen, 10)
 

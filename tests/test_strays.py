@@ -10,7 +10,7 @@ from scriptpicks.strays import fates, first_edit, is_steady, is_sure
 from scriptpicks.sums import can_miss, states
 from tests.models import HeldRun, Model
 from tests.test_runs import ALL, H, K, LAST, ONE, SCRIPT, START, THREE, TWO
-from tests.trials import SORTS, WORDS, Trials, Universe, rows_of
+from tests.trials import EVERY, SORTS, WORDS, Trials, Universe, rows_of
 
 ROWS = [("goal", 0), ("goal", 1), ("goal", 2), ("book", 0), ("book", 1)]
 FULL = Licence(goal="any", book="any", **{sort: ROWS for sort in SORTS})
@@ -249,7 +249,7 @@ class AllEditsTest(StrayCase):
             one = Held(start, trials.script(start, 5))
             licence = trials.licence(start, ["h", "k", "m"], chance.choice([0.2, 0.4]))
             universe = Universe(chance, [one.script()], licence, start.aim, 1)
-            seen += self.compare(one, licence, universe.lists(start, licence, 2, 60))[0]
+            seen += self.compare(one, licence, universe.lists(start, licence, 2, EVERY))[0]
         self.assertGreater(seen, 2500)
 
     def test_picks_by_at_by_chance(self):

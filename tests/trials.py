@@ -9,6 +9,8 @@ from scriptpicks.steps import done
 
 SORTS = ("call", "more", "out", "part", "turn")
 WORDS = ("none", "front", "back", "any")
+# More than there are edits behind any list of edits that is tried.
+EVERY = 10 ** 6
 ALL_ATOMS = [(relation, left, right) for relation in ("eq", "lt", "gt") for left in "abxy" for right in "abxy"]
 
 
